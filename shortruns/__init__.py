@@ -1,0 +1,1 @@
+"""Shortcuts: runs of actions with repeats within repeats, as if done one by one."""

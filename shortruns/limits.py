@@ -1,0 +1,19 @@
+"""The bounds that the document names, and the numbers of its refusals."""
+
+MOST = 1000000000
+BIG = 1000000000000000000
+
+MOST_REGISTERS = 8
+MOST_ACTIONS = 16
+LONGEST_NAME = 8
+LONGEST_TEXT = 4096
+DEEPEST = 40
+MOST_STARS = 8
+
+NOT_OF_ITS_FORM = -1
+NO_RUN = -2
+STAR_NOT_ALLOWED = -3
+NO_PLACE = -4
+NAME_TAKEN = -5
+CANNOT_BE_DONE = -7
+FOR_EVER = -8
