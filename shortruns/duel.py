@@ -1,21 +1,32 @@
 """The calls of one list, answered in order on one new state."""
 
+from shortruns.again import call_ever
+from shortruns.again import call_most
 from shortruns.doing import call_at
 from shortruns.doing import call_can
+from shortruns.doing import call_first
 from shortruns.doing import call_reach
 from shortruns.doing import call_run
 from shortruns.making import call_act
 from shortruns.making import call_reg
 from shortruns.making import call_set
+from shortruns.offers import call_accept
+from shortruns.offers import call_cut
+from shortruns.offers import call_propose
+from shortruns.offers import call_withdraw
+from shortruns.showing import call_actions
+from shortruns.showing import call_registers
+from shortruns.showing import call_state
 from shortruns.state import State
+from shortruns.telling import call_compare
 from shortruns.telling import call_counts
 from shortruns.telling import call_form
 from shortruns.telling import call_read
 from shortruns.telling import call_sum
 
 # By the call's number, like what answered_by gives back.
-HOW_MANY_NUMBERS = (1, 1, 2, 0, 0, 0, 0, 0, 0, 0, 1)
-HOW_MANY_ROWS = (1, 2, 0, 1, 1, 1, 1, 1, 1, 1, 1)
+HOW_MANY_NUMBERS = (1, 1, 2, 0, 0, 0, 0, 0, 0, 0, 1, 3, 0, 0, 0, 1, 1, 2, 1, 0, 0, 0)
+HOW_MANY_ROWS = (1, 2, 0, 1, 1, 1, 1, 1, 1, 1, 1, 1, 1, 1, 2, 1, 0, 0, 0, 0, 0, 0)
 
 
 def answered_by():
@@ -31,6 +42,17 @@ def answered_by():
         call_run,
         call_reach,
         call_at,
+        call_first,
+        call_most,
+        call_ever,
+        call_compare,
+        call_propose,
+        call_accept,
+        call_cut,
+        call_withdraw,
+        call_registers,
+        call_actions,
+        call_state,
     ]
 
 

@@ -7,7 +7,9 @@ from shortruns.limits import MOST_REGISTERS
 from shortruns.limits import NAME_TAKEN
 from shortruns.limits import NO_PLACE
 from shortruns.limits import NOT_OF_ITS_FORM
+from shortruns.limits import NOT_THE_TIME
 from shortruns.state import Action
+from shortruns.state import is_register
 from shortruns.sums import stricter_greatest
 from shortruns.sums import stricter_least
 from shortruns.tokens import is_small_letter
@@ -25,15 +27,11 @@ def is_small(number):
     return -MOST <= number <= MOST
 
 
-def is_there(state, number):
-    return 0 <= number < len(state.held)
-
-
 def is_row_of_rules(state, row):
     if len(row) % 3 != 0:
         return False
     for k in range(0, len(row), 3):
-        if not is_there(state, row[k]) or not LEAST <= row[k + 1] <= CHANGE or not is_small(row[k + 2]):
+        if not is_register(state, row[k]) or not LEAST <= row[k + 1] <= CHANGE or not is_small(row[k + 2]):
             return False
     return True
 
@@ -55,6 +53,8 @@ def call_reg(state, numbers, rows):
         return [NO_PLACE]
     if name in state.names:
         return [NAME_TAKEN]
+    if state.offer is not None:
+        return [NOT_THE_TIME]
     state.names = state.names + [name]
     state.held = state.held + [numbers[0]]
     return [0, len(state.held) - 1]
@@ -69,6 +69,8 @@ def call_act(state, numbers, rows):
         return [NO_PLACE]
     if name in [action.name for action in state.actions]:
         return [NAME_TAKEN]
+    if state.offer is not None:
+        return [NOT_THE_TIME]
     made = Action(name, numbers[0])
     for k in range(0, len(row), 3):
         tell_rule(made, row[k], row[k + 1], row[k + 2])
@@ -78,7 +80,9 @@ def call_act(state, numbers, rows):
 
 def call_set(state, numbers, rows):
     number = numbers[0]
-    if not is_there(state, number) or not is_small(numbers[1]):
+    if not is_register(state, number) or not is_small(numbers[1]):
         return [NOT_OF_ITS_FORM]
+    if state.offer is not None:
+        return [NOT_THE_TIME]
     state.held = state.held[:number] + [numbers[1]] + state.held[number + 1:]
     return [0]

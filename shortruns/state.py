@@ -1,4 +1,4 @@
-"""The state that calls work on: registers and actions."""
+"""The state that calls work on: registers, actions and the offer."""
 
 from shortruns.parts import action_part
 from shortruns.sums import Sum
@@ -16,12 +16,26 @@ class Action:
         self.change = {}
 
 
-# held has the registers' values. It is never changed in place, so a walk may begin with it as it is.
+# The run is kept with its stars settled. While there is an offer no register changes and none is made, so the run can
+# still be done, and has a span for each register, when the other side answers it.
+class Offer:
+    def __init__(self, side, run):
+        self.side = side
+        self.run = run
+
+
+# held has the registers' values. It is never changed in place, so a walk may begin with it as it is. offer is None
+# where there is none.
 class State:
     def __init__(self):
         self.names = []
         self.held = []
         self.actions = []
+        self.offer = None
+
+
+def is_register(state, number):
+    return 0 <= number < len(state.held)
 
 
 def sum_of_action(action, width):

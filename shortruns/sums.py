@@ -124,3 +124,18 @@ def most_times(once, held):
     for span, value in zip(once.spans, held):
         most = stricter_greatest(most, span_times(span, value))
     return most
+
+
+def adds_the_same(one, other):
+    return all([span.added == beside.added for span, beside in zip(one.spans, other.spans)])
+
+
+# Nothing more is asked where the stricter of two limits is the one beside.
+def span_asks_no_more(span, beside):
+    return (stricter_least(span.least, beside.least) == beside.least
+            and stricter_greatest(span.greatest, beside.greatest) == beside.greatest)
+
+
+# Whether the one can be done wherever the other can, as far as least and greatest values say, each by itself.
+def asks_no_more(one, other):
+    return all([span_asks_no_more(span, beside) for span, beside in zip(one.spans, other.spans)])

@@ -1,10 +1,12 @@
-"""The calls that tell of a text whatever the registers hold: read, form, sum, counts."""
+"""The calls that tell of a text whatever the registers hold: read, form, sum, counts, compare."""
 
 from shortruns.limits import NO_RUN
 from shortruns.limits import STAR_NOT_ALLOWED
 from shortruns.parts import counts_of
 from shortruns.parts import sum_of_row
 from shortruns.state import read_in_state
+from shortruns.sums import adds_the_same
+from shortruns.sums import asks_no_more
 from shortruns.tokens import one_text
 from shortruns.tokens import tokens_of
 
@@ -59,3 +61,19 @@ def call_counts(state, numbers, rows):
     if refusal < 0:
         return [refusal]
     return [0] + counts_of(reading.row, len(state.actions))
+
+
+def call_compare(state, numbers, rows):
+    readings = [read_in_state(state, text) for text in rows]
+    refusals = [refusal_without_stars(reading) for reading in readings]
+    due = [refusal for refusal in refusals if refusal < 0]
+    if len(due) > 0:
+        return [max(due)]
+    one = sum_of_row(readings[0].row, len(state.held))
+    other = sum_of_row(readings[1].row, len(state.held))
+    return [
+        0,
+        1 if adds_the_same(one, other) else 0,
+        1 if asks_no_more(one, other) else 0,
+        1 if asks_no_more(other, one) else 0,
+    ]

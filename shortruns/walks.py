@@ -1,4 +1,4 @@
-"""Going along runs from given registers: how often stars are done, how far a run gets, how things stand on its way."""
+"""Going along runs: how often stars are done, how far a run gets, how things stand on its way, when a mark is met."""
 
 from shortruns.parts import Part
 from shortruns.parts import repeat_with_sum
@@ -74,3 +74,47 @@ def behind(run, steps, held):
             now = moved(now, part.whole, 1)
         row = inner
     return now
+
+
+# Downwards is told as a climb too, with its signs turned round, so that there is one way to walk for both.
+def peak_of(span, is_up):
+    return span.highest if is_up else -span.lowest
+
+
+def rise_of(span, is_up):
+    return span.added if is_up else -span.added
+
+
+# How many times of a row are done before the time within which it gets that high. It gets there, if not the first
+# time, then by rising from one time to the next.
+def times_below(once, is_up, height):
+    missing = height - peak_of(once, is_up)
+    if missing <= 0:
+        return 0
+    return -(-missing // rise_of(once, is_up))
+
+
+# Behind how many actions at the least the register has come that far up (or down), whether or not these can be done;
+# None if it never does. The first part that gets there is gone into, and as no part before it did, the height that's
+# left is above 0 at every part: so the action that's come to at last is the very one that gets there.
+def steps_to_climb(run, number, is_up, height):
+    if height <= 0:
+        return 0
+    if peak_of(run.whole.spans[number], is_up) < height:
+        return None
+    done = 0
+    left = height
+    row = [run]
+    while len(row) > 0:
+        inner = []
+        for part in row:
+            if peak_of(part.whole.spans[number], is_up) >= left:
+                times = times_below(part.once.spans[number], is_up, left)
+                done += times * part.once.length
+                left -= times * rise_of(part.once.spans[number], is_up)
+                inner = part.row
+                break
+            done += part.whole.length
+            left -= rise_of(part.whole.spans[number], is_up)
+        row = inner
+    return done + 1

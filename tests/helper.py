@@ -1,5 +1,7 @@
 """Calls written by name, their answers one by one, and a model that does actions one by one."""
 
+import unittest
+
 from shortruns.duel import answers
 
 MOST = 10 ** 9
@@ -59,6 +61,50 @@ def at(k, text):
     return [10, k] + row_of(text)
 
 
+def first(number, up, mark, text):
+    return [11, number, up, mark] + row_of(text)
+
+
+def most(text):
+    return [12] + row_of(text)
+
+
+def ever(text):
+    return [13] + row_of(text)
+
+
+def compare(one, other):
+    return [14] + row_of(one) + row_of(other)
+
+
+def propose(side, text):
+    return [15, side] + row_of(text)
+
+
+def accept(side):
+    return [16, side]
+
+
+def cut(side, k):
+    return [17, side, k]
+
+
+def withdraw(side):
+    return [18, side]
+
+
+def registers():
+    return [19]
+
+
+def actions():
+    return [20]
+
+
+def state():
+    return [21]
+
+
 def ask(calls):
     """The answers of the calls, a list each."""
     told = answers([number for call in calls for number in call])
@@ -82,8 +128,24 @@ def letters(text):
 
 
 def look():
-    """Calls that show the whole state: the registers, and how many actions there are."""
-    return [reach(""), counts("")]
+    """Calls that show the whole state: what can be told of it, what the offer does, and which names are free."""
+    calls = [registers(), actions(), state(), accept(0), accept(1), registers()]
+    return calls + [reg(0, name) for name in ("x", "y", "more")] + [act(0, name) for name in ("a", "b", "more")]
+
+
+class StateCase(unittest.TestCase):
+    def changes_nothing(self, before, call):
+        with_it = ask(before + [call] + look())[len(before) + 1:]
+        self.assertEqual(with_it, ask(before + look())[len(before):], call)
+
+    def refused(self, before, call, number):
+        """The call is refused with that number, and the state is as it was."""
+        self.assertEqual(last(before + [call]), [number], call)
+        StateCase.changes_nothing(self, before, call)
+
+
+def nested(depth, inside, times=MOST):
+    return f"{times}(" * depth + inside + ")" * depth
 
 
 # The model. An action is (must, {register: least}, {register: greatest}, {register: change}); a part is
@@ -123,19 +185,19 @@ def expanded(row):
     return found
 
 
-def done_while_able(actions, row, held):
+def done_while_able(book, row, held):
     """The registers behind all actions of the row, or None if one can't be done."""
     now = held
     for number in row:
-        if not is_able(actions[number], now):
+        if not is_able(book[number], now):
             return None
-        now = done(actions[number], now)
+        now = done(book[number], now)
     return now
 
 
-def comes_to_a_limit(actions, row):
+def comes_to_a_limit(book, row):
     """Whether doing the row again and again drives some register towards a limit that one of its actions tells."""
-    found = [actions[number] for number in row]
+    found = [book[number] for number in row]
     for must, least, greatest, change in found:
         for number in least:
             if sum(action[3].get(number, 0) for action in found) < 0:
@@ -146,21 +208,21 @@ def comes_to_a_limit(actions, row):
     return False
 
 
-def star_steps(actions, row, held):
+def star_steps(book, row, held):
     """All actions of a star with that row, done one by one, and the registers then; None if it goes on for ever."""
     steps = []
     now = held
-    then = done_while_able(actions, row, now)
-    if row and then is not None and not comes_to_a_limit(actions, row):
+    then = done_while_able(book, row, now)
+    if row and then is not None and not comes_to_a_limit(book, row):
         return None
     while row and then is not None:
         steps += row
         now = then
-        then = done_while_able(actions, row, now)
+        then = done_while_able(book, row, now)
     return steps, now
 
 
-def steps_of(actions, parts, held):
+def steps_of(book, parts, held):
     """The run's actions from these registers, stars done one by one; None if it goes on for ever."""
     steps = []
     now = held
@@ -169,9 +231,9 @@ def steps_of(actions, parts, held):
             row = expanded([part])
             steps += row
             if now is not None:
-                now = done_while_able(actions, row, now)
+                now = done_while_able(book, row, now)
         elif now is not None:
-            found = star_steps(actions, expanded(part[1]), now)
+            found = star_steps(book, expanded(part[1]), now)
             if found is None:
                 return None
             steps += found[0]
@@ -179,17 +241,17 @@ def steps_of(actions, parts, held):
     return steps
 
 
-def states_along(actions, steps, held):
+def states_along(book, steps, held):
     """The registers before the first step, and behind each one until one can't be done."""
     found = [list(held)]
     for number in steps:
-        if not is_able(actions[number], found[-1]):
+        if not is_able(book[number], found[-1]):
             break
-        found.append(done(actions[number], found[-1]))
+        found.append(done(book[number], found[-1]))
     return found
 
 
-def summed(actions, steps, width):
+def summed(book, steps, width):
     """The answer of sum, by the document's words for each of its numbers."""
     answer = [0, len(steps)]
     for k in range(width):
@@ -197,7 +259,7 @@ def summed(actions, steps, width):
         leasts = []
         greatests = []
         for number in steps:
-            must, least, greatest, change = actions[number]
+            must, least, greatest, change = book[number]
             if k in least:
                 leasts.append(least[k] - added[-1])
             if k in greatest:

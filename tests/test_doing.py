@@ -2,8 +2,8 @@
 
 import unittest
 
-from tests.helper import BIG, CHANGE, GREATEST, LEAST, MOST
-from tests.helper import act, ask, at, can, last, look, reach, reg, run, set_to
+from tests.helper import BIG, CHANGE, GREATEST, LEAST, MOST, StateCase
+from tests.helper import act, ask, at, can, last, nested, reach, reg, run, set_to
 
 # x is paid from and gained to, y counts; watch wants x at 1 or 2 and changes nothing; never can't ever be done.
 BOOK = [
@@ -18,23 +18,15 @@ BOOK = [
 ]
 
 
-def nested(depth, inside, times=MOST):
-    return f"{times}(" * depth + inside + ")" * depth
-
-
-class Doing(unittest.TestCase):
+class Doing(StateCase):
     def told(self, call, *wanted):
         self.assertEqual(last(BOOK + [call]), list(wanted))
 
-    def refused(self, call, number, before=()):
-        before = BOOK + list(before)
-        found = ask(before + look() + [call] + look())
-        self.assertEqual(found[len(before) + 2], [number])
-        self.assertEqual(found[-2:], found[len(before):len(before) + 2])
+    def refused(self, call, number):
+        StateCase.refused(self, BOOK, call, number)
 
     def changes_nothing(self, call):
-        found = ask(BOOK + look() + [call] + look())
-        self.assertEqual(found[-2:], found[len(BOOK):len(BOOK) + 2])
+        StateCase.changes_nothing(self, BOOK, call)
 
 
 NO_RUNS = ("no", "2(", "?", "*(*(pay))", " " * 4097, "00(pay)")

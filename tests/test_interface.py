@@ -6,7 +6,8 @@ import unittest
 
 from shortruns.duel import answers
 from tests.helper import CHANGE, GREATEST, LEAST, MOST
-from tests.helper import act, ask, at, can, counts, form, reach, read, reg, run, set_to, sum_of
+from tests.helper import accept, act, actions, ask, at, can, compare, counts, cut, ever, first, form, most, nested
+from tests.helper import propose, reach, read, reg, registers, run, set_to, state, sum_of, withdraw
 
 CALLS = [
     reg(10, "x"),
@@ -24,6 +25,22 @@ CALLS = [
     reach("9(pay)"),
     at(1, "9(pay)"),
     run("no"),
+    first(0, 1, 12, "*(gain)"),
+    most("pay"),
+    ever("gain"),
+    compare("pay", "gain"),
+    propose(0, "gain *(pay)"),
+    set_to(0, 1),
+    state(),
+    cut(1, 2),
+    propose(1, "gain"),
+    accept(0),
+    propose(1, "gain"),
+    withdraw(1),
+    registers(),
+    actions(),
+    state(),
+    accept(2),
 ]
 FLAT = [number for call in CALLS for number in call]
 
@@ -45,7 +62,29 @@ class TestInterface(unittest.TestCase):
             [1, 2, 1, 1], [0, 6], [0] + list(b"2(pay)"),
             [0, 4, 1, 3, 1, 21, 4, -3, 4, 0, 0, 0, 0, 0, 0, 0],
             [0, 2, 2], [0, 1], [0, 2, 4, 4], [0, 1, 0, 1, 4], [0, 1, 4], [-2],
+            [0, 2, 14, 4], [0, 1], [0, 0], [0, 0, 0, 0], [0, 4], [-6], [0, 1, 0, 4], [0, 6, 4],
+            [0, 1], [0, 1, 11, 4], [0, 1], [0], [0, 11, 4],
+            [0, 1, 1, 3, 0, 0, -3, 0, 0, 0, 0, 0, 0, 0, 0, 1, 20, 5, 0, 0, 0, 0, 0], [0, 0, 0, 0], [-1],
         ])
+
+    def test_calls_of_a_session_written_out(self):
+        calls = [0, 7, 1, 120]
+        calls += [1, 1, 1, 97, 3, 0, 2, -2]
+        calls += [11, 0, 0, 4, 4, 51, 40, 97, 41]
+        calls += [12, 1, 97]
+        calls += [13, 1, 97]
+        calls += [14, 1, 97, 0]
+        calls += [15, 1, 4, 51, 40, 97, 41]
+        calls += [21]
+        calls += [18, 0]
+        calls += [17, 0, 2]
+        calls += [15, 0, 0]
+        calls += [16, 1]
+        calls += [19]
+        calls += [20]
+        wanted = [2, 0, 0, 2, 0, 0, 3, 0, 2, 3, 1, -8, 2, 0, 1, 4, 0, 0, 1, 1, 2, 0, 3, 4, 0, 1, 1, 3, 1, -6, 2, 0, 3]
+        wanted += [2, 0, 0, 3, 0, 0, 3, 2, 0, 3, 7, 0, 1, 0, 0, 0, 0, -2]
+        self.assertEqual(answers(calls), wanted)
 
     def test_what_is_handed_in_is_not_changed(self):
         handed = list(FLAT)
@@ -78,6 +117,17 @@ class TestInterface(unittest.TestCase):
         calls = [reg(0, "x"), act(0, "up", [0, CHANGE, 1])] + [run("2(up)")] * 148
         self.assertEqual(ask(calls)[-1], [0, 2, 296])
 
+    def test_150_calls_of_all_sorts(self):
+        calls = CALLS + [
+            set_to(0, 10), propose(0, "*(pay)"), reg(1, "z"), accept(1), first(0, 1, 6, "gain"), run("2(gain)")] * 19
+        calls += [state()] * (150 - len(calls))
+        self.assertEqual(len(calls), 150)
+        found = ask(calls)
+        self.assertEqual(found[:len(CALLS)], ask(CALLS))
+        wanted = [[0], [0, 3], [-6], [0, 3, 1, 4], [0, 1, 6, 4], [0, 2, 11, 4]]
+        self.assertEqual(found[len(CALLS):len(CALLS) + 6 * 19], wanted * 19)
+        self.assertEqual(found[-1], [0, 0, 0, 0])
+
     def test_long_texts(self):
         book = [reg(0, letter) for letter in "abcdefgh"]
         book += [act(0, "u", [number for k in range(8) for number in (k, CHANGE, 1, k, LEAST, 0)])]
@@ -85,6 +135,17 @@ class TestInterface(unittest.TestCase):
         found = ask(book + [reach(text) for text in texts])[len(book):]
         for length, answer in zip((2048, 315 * MOST, 1980), found):
             self.assertEqual(answer, [0, length, 1] + [length] * 8)
+
+    def test_long_texts_in_a_session(self):
+        book = [reg(0, letter) for letter in "abcdefgh"]
+        book += [act(1, "u", [number for k in range(8) for number in (k, CHANGE, 1, k, LEAST, 0)])]
+        text = "1(" * 40 + "u " * 1980 + ")" * 40
+        calls = [first(7, 1, 1979, text), compare(text, "u " * 2048), propose(0, text), cut(1, 1234)]
+        self.assertEqual(ask(book + calls)[len(book):],
+                         [[0, 1979] + [1979] * 8, [0, 0, 1, 1], [0, 1980], [0] + [1234] * 8])
+        self.assertEqual(ask(book + [most(text), ever(text)])[len(book):], [[-8], [0, 1]])
+        text = nested(40, "u")
+        self.assertEqual(ask(book + [first(3, 1, 10 ** 18, text)])[-1], [0, 10 ** 18] + [10 ** 18] * 8)
 
 
 if __name__ == "__main__":

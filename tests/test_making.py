@@ -2,21 +2,14 @@
 
 import unittest
 
-from tests.helper import BIG, CHANGE, GREATEST, LEAST, MOST
-from tests.helper import act, ask, counts, last, look, reach, read, reg, run, set_to, sum_of
+from tests.helper import BIG, CHANGE, GREATEST, LEAST, MOST, StateCase
+from tests.helper import act, ask, counts, last, reach, read, reg, run, set_to, sum_of
 
 EIGHT = [reg(k, "r" + letter) for k, letter in enumerate("abcdefgh")]
 SIXTEEN = [act(0, "a" + letter) for letter in "abcdefghijklmnop"]
 
 
-class Refusals(unittest.TestCase):
-    def refused(self, before, call, number):
-        found = ask(before + look() + [call] + look())
-        self.assertEqual(found[len(before) + 2], [number])
-        self.assertEqual(found[-2:], found[len(before):len(before) + 2])
-
-
-class TestReg(Refusals):
+class TestReg(StateCase):
     def test_numbers_in_order(self):
         found = ask([reg(5, "x"), reg(-7, "y"), reach("")])
         self.assertEqual(found, [[0, 0], [0, 1], [0, 0, 1, 5, -7]])
@@ -63,7 +56,7 @@ class TestReg(Refusals):
         self.refused([reg(0, "x")], reg(-MOST - 1, "x"), -1)
 
 
-class TestAct(Refusals):
+class TestAct(StateCase):
     def test_numbers_in_order(self):
         found = ask([act(0, "a"), act(1, "b"), counts("b 3(a) b")])
         self.assertEqual(found, [[0, 0], [0, 1], [0, 3, 2]])
@@ -153,7 +146,7 @@ class TestAct(Refusals):
         self.refused([act(0, "a")], act(2, "a"), -1)
 
 
-class TestSet(Refusals):
+class TestSet(StateCase):
     def test_sets_that_one(self):
         found = ask([reg(1, "x"), reg(2, "y"), reg(3, "z"), set_to(1, 9), reach("")])
         self.assertEqual(found[-2:], [[0], [0, 0, 1, 1, 9, 3]])

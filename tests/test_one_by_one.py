@@ -3,7 +3,8 @@
 import random
 import unittest
 
-from tests.helper import act, ask, at, can, counts, form, letters, reach, read, reg, run, set_to, sum_of
+from tests.helper import accept, act, ask, at, can, counts, cut, first, form, letters, propose, reach, read, reg
+from tests.helper import registers, run, set_to, state, sum_of
 from tests.helper import depth_of, expanded, one_text_of, rules_of, states_along, steps_of, summed, text_of
 
 NAMES = ["a", "b", "ab", "pay", "gain", "abcdefgh"]
@@ -127,6 +128,57 @@ class TestOneByOne(unittest.TestCase):
         found = case.ask([at(k, text) for k in ks])
         wanted = [[0] + along[k] if k < len(along) else [-7] for k in ks]
         self.assertEqual(found, wanted, (seed, text))
+
+    def test_first_without_stars(self):
+        for seed in range(700):
+            case = Case(seed)
+            self.first_held_against_steps(case, case.row(), seed)
+
+    def test_first_with_stars(self):
+        for seed in range(1000):
+            case = Case(seed)
+            self.first_held_against_steps(case, case.parts(), seed)
+
+    def first_held_against_steps(self, case, parts, seed):
+        text = case.text(parts)
+        steps = steps_of(case.actions, parts, case.held)
+        along = None if steps is None else states_along(case.actions, steps, case.held)
+        calls = []
+        wanted = []
+        for number in range(case.width):
+            values = [held[number] for held in along or [case.held]]
+            for up in (0, 1):
+                for mark in self.some_marks(case, min(values) - 2, max(values) + 2):
+                    calls.append(first(number, up, mark, text))
+                    wanted.append([-8] if along is None else self.first_along(along, number, up, mark))
+        self.assertEqual(case.ask(calls), wanted, (seed, text))
+
+    def some_marks(self, case, low, high):
+        marks = list(range(low, high + 1))
+        return marks if len(marks) <= 12 else sorted(case.source.sample(marks, 12))
+
+    def first_along(self, along, number, up, mark):
+        for k, held in enumerate(along):
+            if held[number] >= mark if up else held[number] <= mark:
+                return [0, k] + held
+        return [-7]
+
+    def test_offers_cut_at_each_action(self):
+        for seed in range(500):
+            case = Case(seed)
+            parts = case.parts()
+            text = case.text(parts)
+            steps = steps_of(case.actions, parts, case.held)
+            along = [] if steps is None else states_along(case.actions, steps, case.held)
+            if steps is None or len(along) <= len(steps):
+                self.assertEqual(case.ask([propose(0, text), state()]), [[-8 if steps is None else -7], [0] * 4])
+                continue
+            self.assertEqual(case.ask([propose(0, text), accept(1)]), [[0, len(steps)], [0, len(steps)] + along[-1]])
+            for k in sorted(case.source.sample(range(len(along)), min(len(along), 8))):
+                found = case.ask([propose(1, text), state(), cut(0, k), registers(), state()])
+                wanted = [[0, len(steps)], [0, 1, 1, len(steps)], [0] + along[k], [0] + along[k], [0] * 4]
+                self.assertEqual(found, wanted, (seed, text, k))
+            self.assertEqual(case.ask([propose(1, text), cut(0, len(steps) + 1)])[-1], [-7])
 
     def test_many_calls_on_one_state(self):
         for seed in range(150):

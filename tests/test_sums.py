@@ -2,8 +2,8 @@
 
 import unittest
 
-from tests.helper import CHANGE, GREATEST, LEAST, MOST
-from tests.helper import act, ask, can, counts, last, look, reg, run, set_to, sum_of
+from tests.helper import CHANGE, GREATEST, LEAST, MOST, StateCase
+from tests.helper import act, ask, can, counts, last, nested, reg, run, set_to, sum_of
 
 # One register; up, down and pay change it, pay and gain are limited.
 BOOK = [
@@ -16,15 +16,9 @@ BOOK = [
 ]
 
 
-def nested(depth, inside, times=MOST):
-    return f"{times}(" * depth + inside + ")" * depth
-
-
-class Refusals(unittest.TestCase):
+class Refusals(StateCase):
     def refused(self, call, number):
-        found = ask(BOOK + look() + [call] + look())
-        self.assertEqual(found[len(BOOK) + 2], [number])
-        self.assertEqual(found[-2:], found[len(BOOK):len(BOOK) + 2])
+        StateCase.refused(self, BOOK, call, number)
 
 
 class TestSum(Refusals):
